@@ -2,6 +2,7 @@
 
 from siltstore.checks import is_whole, need_number
 from siltstore.errors import BadDigits
+from siltstore.pairs import greatest_digit, least_digit, times_baked
 from siltstore.rules import need_rule
 
 
@@ -11,7 +12,7 @@ def digits(rule, day):
     need_number(day)
     told, grade, many = [], 0, day
     while many:
-        bakes = _bakes(rule[grade], many)
+        bakes = times_baked(rule[grade], many)
         told.append(many - bakes * rule[grade][1])
         many = bakes
         grade += 1
@@ -25,13 +26,13 @@ def day_of(rule, told):
         raise BadDigits(None)
     day, days = 0, 1
     for grade, digit in enumerate(told):
-        most, many = rule[grade]
+        pair = rule[grade]
         # The greatest grade need not have been baked yet, all others have been.
-        least = 1 if grade == len(told) - 1 else most - many
-        if not is_whole(digit, least) or digit >= most:
+        least = 1 if grade == len(told) - 1 else least_digit(pair)
+        if not is_whole(digit, least) or digit > greatest_digit(pair):
             raise BadDigits(grade)
         day += digit * days
-        days *= many
+        days *= pair[1]
     return day
 
 
@@ -64,7 +65,7 @@ def made(rule, grade, day):
     need_number(day)
     lesser, many = 0, day
     while many and lesser < grade:
-        many = _bakes(rule[lesser], many)
+        many = times_baked(rule[lesser], many)
         lesser += 1
     return many
 
@@ -85,8 +86,8 @@ def baked(rule, day):
     need_number(day)
     grades, many = [], day
     # A grade is baked if the last one of its layers, which is new, fills it up.
-    while _bakes(rule[len(grades)], many) > _bakes(rule[len(grades)], many - 1):
-        many = _bakes(rule[len(grades)], many)
+    while times_baked(rule[len(grades)], many) > times_baked(rule[len(grades)], many - 1):
+        many = times_baked(rule[len(grades)], many)
         grades.append(len(grades))
     return grades
 
@@ -97,12 +98,6 @@ def next_baked(rule, grade, day):
     need_number(grade)
     # Each bake makes a layer of the next grade, and nothing else does.
     return day_made(rule, grade + 1, made(rule, grade + 1, day) + 1)
-
-
-def _bakes(pair, many):
-    """How often a grade with a pair has been baked when there have been so many of its layers."""
-    most, some = pair
-    return max(0, (many - most + some) // some)
 
 
 def _behind(rule, told):

@@ -1,11 +1,8 @@
 """Rules: at how many layers each grade is baked, and how many of them are."""
 
-from siltstore.checks import is_whole
 from siltstore.errors import BadRule
+from siltstore.pairs import is_pair
 from siltstore.series import is_part, shortest, told_at
-
-LEAST = 2
-GREATEST = 12
 
 
 class Rule:
@@ -15,7 +12,7 @@ class Rule:
         if not is_part(front) or not is_part(period) or not period:
             raise BadRule(None)
         for place, pair in enumerate([*front, *period]):
-            if not _is_pair(pair):
+            if not is_pair(pair):
                 raise BadRule(place)
         self.front, self.period = shortest(front, period)
 
@@ -43,14 +40,6 @@ class Rule:
             total += days * (most - many)
             days *= many
         return total
-
-
-def _is_pair(pair):
-    """Whether something is a pair as a rule has it for a grade."""
-    if not isinstance(pair, tuple) or len(pair) != 2:
-        return False
-    most, many = pair
-    return is_whole(most, LEAST) and is_whole(many, LEAST) and many <= most <= GREATEST
 
 
 def need_rule(rule):

@@ -14,12 +14,14 @@ class Play:
         self.layers = []
         self.made = []
         self.baked = []
+        self.work_on = 0
 
     def fall(self):
         self.day += 1
         self.layers.append((self.day, self.day, 0))
         self._note_made(0)
         self.baked = []
+        self.work_on = 0
         grade = self._ripe()
         while grade is not None:
             self._bake(grade)
@@ -45,8 +47,14 @@ class Play:
         assert places == list(range(first, last + 1)), "bakes take neighbours"
         new = (self.layers[first][0], self.layers[last][1], grade + 1)
         self.layers[first:last + 1] = [new]
+        self.work_on += new[1] - new[0] + 1
         self._note_made(grade + 1)
         self.baked.append(grade)
+
+    def places(self):
+        """Where each day lies, from day 1 on: pairs of the grade and the number of its layer."""
+        return [(grade, number) for number, (first, last, grade) in enumerate(self.layers)
+                for _ in range(first, last + 1)]
 
     def digits(self):
         told = []
@@ -54,6 +62,14 @@ class Play:
             told += [0] * (layer[2] + 1 - len(told))
             told[layer[2]] += 1
         return told
+
+
+def played(rule, many):
+    """The store behind each of so many days, one play that goes on."""
+    play = Play(rule)
+    for _ in range(many):
+        play.fall()
+        yield play
 
 
 def some_pair(dice, greatest=12):
@@ -82,3 +98,7 @@ PLAIN_RULES = [
     Rule([(12, 12), (2, 2)], [(3, 2), (2, 2)]),
     Rule([(2, 2), (5, 3), (4, 2), (3, 3), (2, 2), (6, 4)], [(2, 2), (3, 2), (4, 3), (3, 3), (5, 2), (2, 2)]),
 ]
+
+FAR = [10 ** 6, 10 ** 9 + 7, 10 ** 18 - 1, 10 ** 30, 10 ** 30 + 1, 2 ** 200, 3 ** 150 - 1, 10 ** 300]
+NO_RULES = [None, 3, "rule", [(2, 2)], ([], [(2, 2)]), Rule]
+NO_NUMBERS = [-1, True, False, None, "1", 1.0, [1], (1,), -10 ** 30]

@@ -4,30 +4,20 @@ import itertools
 import random
 import unittest
 
-from playing import PLAIN_RULES, Play, some_rules
+from playing import FAR, NO_NUMBERS, NO_RULES, PLAIN_RULES, played, some_rules
 from siltstore import days
 from siltstore.days import baked, day_made, day_of, digits, each_day, layers, made, next_baked
 from siltstore.errors import BadDay, BadDigits, BadRule
 from siltstore.rules import Rule
 
-FAR = [10 ** 6, 10 ** 9 + 7, 10 ** 18 - 1, 10 ** 30, 10 ** 30 + 1, 2 ** 200, 3 ** 150 - 1, 10 ** 300]
-NO_RULES = [None, 3, "rule", [(2, 2)], ([], [(2, 2)]), Rule]
-NO_NUMBERS = [-1, True, False, None, "1", 1.0, [1], (1,), -10 ** 30]
-
 
 class PlayedTest(unittest.TestCase):
     """Each function, held against stores that are played."""
 
-    def each_played_day(self, rule, many):
-        play = Play(rule)
-        for _ in range(many):
-            play.fall()
-            yield play
-
     def test_what_lies_there(self):
         for rule in PLAIN_RULES + some_rules(1, 12, 4) + some_rules(2, 6):
             told = each_day(rule)
-            for play in self.each_played_day(rule, 250):
+            for play in played(rule, 250):
                 self.assertEqual(digits(rule, play.day), play.digits())
                 self.assertEqual(next(told), play.digits())
                 self.assertEqual(day_of(rule, play.digits()), play.day)
@@ -35,14 +25,14 @@ class PlayedTest(unittest.TestCase):
 
     def test_what_is_baked(self):
         for rule in PLAIN_RULES + some_rules(3, 12, 4) + some_rules(4, 6):
-            for play in self.each_played_day(rule, 250):
+            for play in played(rule, 250):
                 self.assertEqual(baked(rule, play.day), play.baked)
                 self.assertEqual(baked(rule, play.day), list(range(len(play.baked))))
 
     def test_how_many_there_have_been(self):
         for rule in PLAIN_RULES + some_rules(5, 12, 4) + some_rules(6, 6):
             first_days = {}
-            for play in self.each_played_day(rule, 250):
+            for play in played(rule, 250):
                 for grade, many in enumerate(play.made):
                     self.assertEqual(made(rule, grade, play.day), many)
                     first_days.setdefault((grade, many), play.day)
@@ -52,7 +42,7 @@ class PlayedTest(unittest.TestCase):
 
     def test_what_is_baked_next(self):
         for rule in PLAIN_RULES + some_rules(7, 12, 4) + some_rules(8, 6):
-            on_day = [[]] + [list(play.baked) for play in self.each_played_day(rule, 250)]
+            on_day = [[]] + [list(play.baked) for play in played(rule, 250)]
             for grade in range(4):
                 after = None
                 for day in reversed(range(250)):

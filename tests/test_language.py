@@ -103,6 +103,29 @@ class LanguageTest(unittest.TestCase):
             for name in names:
                 self.assertNotIn(name, WORDS, where)
 
+    def test_no_second_meaning(self):
+        for name, tree in parsed().items():
+            taken = {node.name for node in tree.body if isinstance(node, ast.ClassDef)}
+            taken |= {part.name for node in tree.body if isinstance(node, ast.ImportFrom) for part in node.names}
+            for node in ast.walk(tree):
+                if isinstance(node, ast.arg):
+                    self.assertNotIn(node.arg, taken, f"{name}:{node.lineno}")
+                elif isinstance(node, ast.Name) and isinstance(node.ctx, ast.Store):
+                    self.assertNotIn(node.id, taken, f"{name}:{node.lineno}")
+
+    def test_lists_in_the_place_of_generators(self):
+        for where, node in self.each_node():
+            if isinstance(node, ast.Call) and isinstance(node.func, ast.Name):
+                if node.func.id in ("any", "all", "min", "max", "sum", "sorted"):
+                    self.assertFalse(any(isinstance(part, ast.GeneratorExp) for part in node.args), where)
+
+    def test_exponents_and_strings(self):
+        for where, node in self.each_node():
+            if isinstance(node, ast.BinOp) and isinstance(node.op, ast.Pow):
+                self.assertIsInstance(node.right, (ast.Constant, ast.Name, ast.BinOp), where)
+            if isinstance(node, ast.Constant) and isinstance(node.value, str):
+                self.assertNotIn("%", node.value, where)
+
     def test_methods(self):
         own = own_names(parsed())
         for where, node in self.each_node():
