@@ -70,6 +70,11 @@ def most(rule, last):
     return Most(number, last - left)
 
 
+def greatest_number(rule, last):
+    """The number of most, for files in which something else is called most."""
+    return most(rule, last).number
+
+
 def fewest(rule, first):
     """The least number of layers from a first day on."""
     told = digits(rule, first)
