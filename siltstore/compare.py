@@ -3,8 +3,8 @@
 from math import lcm
 
 from siltstore.days import day_of
-from siltstore.errors import BadDigits, Unlike
-from siltstore.pairs import least_digit
+from siltstore.errors import Unlike
+from siltstore.pairs import is_digit, least_digit
 from siltstore.rules import need_rule
 from siltstore.weights import Weights, need_weights, weighed
 
@@ -84,17 +84,17 @@ class Endless:
         start = both.behind_pairs((0, 0), self.lead)
         if start is None or not self.ring or both.behind_pairs(start, self.ring) != start:
             return False
-        # With the place and the carry of the ring's start, what holds behind two rings holds behind more of them.
-        return both.weight_of(start[0], self.ring) > 0 and all([self._is_day(one, other, turns) for turns in range(3)])
-
-    def _is_day(self, one, other, turns):
-        """Whether the digits with the ring so many times are those of the same day for both rules."""
-        pairs = self.lead + self.ring * turns + self.tail
-        try:
-            mine, theirs = day_of(one, digits_of(pairs, 0)), day_of(other, digits_of(pairs, 1))
-        except BadDigits:
+        # Both rules' days are the same just if nothing is carried on behind the last digits.
+        end = both.behind_pairs(start, self.tail)
+        if end is None or end[1] != 0 or both.weight_of(start[0], self.ring) <= 0:
             return False
-        return mine == theirs
+        # The ring comes back to its place, so digits that a day has behind two rings it has behind more of them, too.
+        return all([self._are_digits(one, other, turns) for turns in range(3)])
+
+    def _are_digits(self, one, other, turns):
+        """Whether both rules have a day with these digits, with the ring so many times."""
+        pairs = self.lead + self.ring * turns + self.tail
+        return _has_day(one, digits_of(pairs, 0)) and _has_day(other, digits_of(pairs, 1))
 
 
 class SideBySide:
@@ -212,6 +212,11 @@ def digits_of(pairs, side):
     while told and told[-1] == 0:
         told.pop()
     return told
+
+
+def _has_day(rule, told):
+    """Whether a rule has a day with told digits."""
+    return all([is_digit(rule[grade], digit, grade == len(told) - 1) for grade, digit in enumerate(told)])
 
 
 def _readings(pair, ended):

@@ -1,8 +1,8 @@
 """What lies there on each day: the day, written in digits of the rule."""
 
-from siltstore.checks import is_whole, need_number
+from siltstore.checks import need_number
 from siltstore.errors import BadDigits
-from siltstore.pairs import greatest_digit, least_digit, times_baked
+from siltstore.pairs import is_digit, times_baked
 from siltstore.rules import need_rule
 
 
@@ -27,9 +27,7 @@ def day_of(rule, told):
     day, days = 0, 1
     for grade, digit in enumerate(told):
         pair = rule[grade]
-        # The greatest grade need not have been baked yet, all others have been.
-        least = 1 if grade == len(told) - 1 else least_digit(pair)
-        if not is_whole(digit, least) or digit > greatest_digit(pair):
+        if not is_digit(pair, digit, grade == len(told) - 1):
             raise BadDigits(grade)
         day += digit * days
         days *= pair[1]

@@ -26,6 +26,12 @@ def least_digit(pair):
     return most - many
 
 
+def is_digit(pair, digit, is_last):
+    """Whether something is how many layers of a grade with a pair can lie there, as the greatest grade or below it."""
+    # The greatest grade need not have been baked yet, all others have been.
+    return is_whole(digit, 1 if is_last else least_digit(pair)) and digit <= greatest_digit(pair)
+
+
 def greatest_digit(pair):
     """How many layers of a grade with a pair lie there at most."""
     return pair[0] - 1

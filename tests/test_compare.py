@@ -222,6 +222,12 @@ class ExamplesTest(unittest.TestCase):
         found = judge_excess(lazy, QUICK, Weights([1], [0]), NONE)
         self.assertEqual((found.number, excess((lazy, QUICK, Weights([1], [0]), NONE), found.day)), (11, 11))
 
+    def test_the_least_excess_above_0(self):
+        for mine in (Weights([1], [0]), Weights([0, 1], [0]), Weights([0] * 5 + [1], [0])):
+            found = judge_excess(QUICK, QUICK, mine, NONE)
+            self.assertEqual((found.number, excess((QUICK, QUICK, mine, NONE), found.day)), (1, 1))
+            self.assertTrue(found.shows(QUICK, QUICK, mine, NONE))
+
     def test_a_ring_at_once(self):
         evidence = Endless([], [(1, 1)], [])
         self.assertTrue(evidence.shows(QUICK, QUICK, HEAVY, LIGHT))

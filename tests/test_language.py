@@ -7,8 +7,8 @@ import unittest
 import warnings
 
 PACKAGE = pathlib.Path(__file__).resolve().parent.parent / "siltstore"
-BUILTINS = set("""len range enumerate zip min max sum abs sorted reversed int str bool list tuple dict set isinstance ord
-    repr any all divmod pow map iter next getattr hasattr setattr Exception ValueError TypeError KeyError IndexError
+BUILTINS = set("""len range enumerate zip min max sum abs sorted reversed int str bool list tuple dict set isinstance
+    ord repr any all divmod pow map iter next getattr hasattr setattr Exception ValueError TypeError KeyError IndexError
     LookupError ZeroDivisionError ArithmeticError OverflowError RuntimeError NotImplementedError StopIteration
     NotImplemented bytes property staticmethod classmethod super""".split())
 METHODS = set("""append clear copy count endswith extend find get index insert isalnum isalpha isdigit islower isspace
@@ -18,7 +18,8 @@ METHODS = set("""append clear copy count endswith extend find get index insert i
 LIBRARY = {"heapq", "math", "itertools", "collections"}
 WORDS = set("""register mro elements open input law version_info with_traceback add_note breakpoint compile dir eval
     exec exit globals help id locals os quit vars typing enum dataclass namedtuple""".split())
-NOT_ALLOWED = (ast.Global, ast.AsyncFunctionDef, ast.AsyncFor, ast.AsyncWith, ast.Await, ast.Import, ast.Div, ast.MatMult)
+NOT_ALLOWED = (ast.Global, ast.AsyncFunctionDef, ast.AsyncFor, ast.AsyncWith, ast.Await, ast.Import, ast.Div,
+               ast.MatMult)
 
 
 def parsed():
