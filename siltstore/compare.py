@@ -4,6 +4,7 @@ from math import lcm
 
 from siltstore.days import day_of
 from siltstore.errors import Unlike
+from siltstore.machines import leading
 from siltstore.pairs import is_digit, least_digit
 from siltstore.rules import need_rule
 from siltstore.weights import Weights, need_weights, weighed
@@ -249,13 +250,7 @@ def _living(moves, ends):
     for state, steps in moves.items():
         for move in steps:
             ahead[move[0]].append(state)
-    live, left = {}, list(ends)
-    while left:
-        state = left.pop()
-        if state not in live:
-            live[state] = True
-            left.extend(ahead[state])
-    return live
+    return leading(ahead, list(ends))
 
 
 def _raised(moves, live, ends):

@@ -70,10 +70,15 @@ def living(rule, steps, ends):
                 ahead[behind] = []
                 left.append(behind)
             ahead[behind].append((place, state))
-    found = {}
-    while live:
-        node = live.pop()
+    return leading(ahead, live)
+
+
+def leading(ahead, goals):
+    """From what goals can be reached, with the goals; ahead tells what lies one step ahead of each."""
+    found, left = {}, list(goals)
+    while left:
+        node = left.pop()
         if node not in found:
             found[node] = True
-            live.extend(ahead[node])
+            left.extend(ahead[node])
     return found

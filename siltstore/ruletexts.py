@@ -31,11 +31,12 @@ class Reader:
         """The column of the word that comes next, behind the last one that of the line's end."""
         return self.words[self.at][1] if self.at < len(self.words) else self.end
 
-    def take(self, word):
-        """Read a word that must come next."""
-        if self.word() != word:
-            raise BadText(self.row, self.spot())
-        self.at += 1
+    def take(self, *words):
+        """Read words that must come next."""
+        for word in words:
+            if self.word() != word:
+                raise BadText(self.row, self.spot())
+            self.at += 1
 
     def take_number(self, least, greatest):
         """Read the number that must come next, from a least to a greatest one."""
@@ -148,21 +149,19 @@ def _plain(rule, reader):
     """The calendar of a part that has no others in it."""
     word = reader.word()
     if word == "always":
-        reader.take(word)
+        reader.take("always")
         return every_day(rule)
     if word == "at":
-        reader.take(word)
-        reader.take("most")
+        reader.take("at", "most")
         return days_few(rule, reader.take_number(0, MOST_LAYERS))
     if word == "baking":
-        reader.take(word)
+        reader.take("baking")
         return days_baking(rule, reader.take_number(0, LAST_GRADE))
     if word == "up":
-        reader.take(word)
-        reader.take("to")
+        reader.take("up", "to")
         return days_deep(rule, reader.take_number(0, LAST_GRADE))
     if word == "from":
-        reader.take(word)
+        reader.take("from")
         return days_from(rule, reader.take_number(0, LAST_DAY))
     many = reader.take_number(0, MOST_OF_GRADE)
     reader.take("of")

@@ -473,6 +473,15 @@ class WrongInputsTest(unittest.TestCase):
                 for day in (1, -1):
                     self.assertRaises(BadDay, call, wrong, day)
 
+    def test_what_is_refused_changes_nothing(self):
+        steps, ends = [all_to(1), all_to(0)], [1, 0, 2]
+        self.assertRaises(BadDay, Calendar, TWO, steps, ends)
+        self.assertEqual((steps, ends), ([all_to(1), all_to(0)], [1, 0, 2]))
+        one, other = days_few(TWO, 1), days_few(Rule([], [(3, 2)]), 1)
+        self.assertRaises(Unlike, both, one, other)
+        self.assertRaises(BadDay, day_with, one, -1)
+        self.assertEqual([days_of(one)[:5], days_of(other)[:5]], [[0, 1, 2, 4, 8], [0, 1]])
+
     def test_calendars_of_unlike_rules(self):
         for rule in (Rule([], [(3, 2)]), Rule([(3, 2)], [(2, 2)]), Rule([], [(2, 2), (2, 2), (3, 2)])):
             for call in (both, either, without, first_unlike, is_within):

@@ -283,6 +283,13 @@ class WrongInputsTest(unittest.TestCase):
                     self.assertRaises(BadDay, call)
             self.assertRaises(BadDay, outdone, EXAMPLE, wrong)
 
+    def test_what_is_refused_changes_nothing(self):
+        choices, found = EXAMPLE + [None], Cheapest(1, {2: 19})
+        self.assertRaises(BadChoices, cheapest, choices, 9, 100)
+        self.assertRaises(BadChoices, found.shows, choices, 9, 100)
+        self.assertRaises(BadDay, found.shows, EXAMPLE, -1, 100)
+        self.assertEqual((choices, found), (EXAMPLE + [None], Cheapest(1, {2: 19})))
+
     def test_arguments_stay(self):
         choices = list(EXAMPLE)
         cheapest(choices, 9, 100)

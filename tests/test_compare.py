@@ -520,6 +520,13 @@ class WrongInputsTest(unittest.TestCase):
                         call()
                     self.assertEqual(caught.exception.what, "baked")
 
+    def test_what_is_refused_changes_nothing(self):
+        for case in [(LAZY, Rule([], [(3, 3)])), (None, LAZY), (LAZY, QUICK, 5)]:
+            for found, again in [(judge_excess(QUICK, LAZY), judge_excess(QUICK, LAZY)),
+                                 (judge_excess(LAZY, QUICK), judge_excess(LAZY, QUICK))]:
+                self.assertRaises((BadRule, BadWeights, Unlike), found.shows, *case)
+                self.assertEqual(found, again)
+
     def test_like_numbers_told_otherwise(self):
         one, other = Rule([(3, 2), (5, 3)], [(4, 2), (4, 3)]), Rule([], [(2, 2), (3, 3), (4, 2), (4, 3)])
         self.assertTrue(judge_excess(one, other).shows(one, other))

@@ -213,6 +213,14 @@ class WrongInputsTest(unittest.TestCase):
             self.assertRaises(BadSheet, Sheet, {}, (), [(0, wrong)])
             self.assertRaises(BadSheet, Sheet, {}, (), [(1, 2), (wrong, wrong)])
 
+    def test_what_is_refused_changes_nothing(self):
+        leaves, marks, ranges = {5: "b", 1: "a"}, [3, 1], [(8, 9)]
+        self.assertRaises(BadSheet, Sheet, leaves, marks, ranges)
+        self.assertEqual((list(leaves.items()), marks, ranges), ([(5, "b"), (1, "a")], [3, 1], [(8, 9)]))
+        sheet = Sheet(leaves, [3], ranges)
+        self.assertRaises(BadKey, sheet.is_gone, -1)
+        self.assertEqual(sheet, Sheet(leaves, [3], ranges))
+
     def test_no_key(self):
         for sheet in (Sheet({}), Sheet({5: "a"}, [], [(0, LAST)])):
             for wrong in NO_KEYS:

@@ -218,6 +218,13 @@ class WrongInputsTest(unittest.TestCase):
                         call()
                     self.assertIsNone(caught.exception.place)
 
+    def test_what_is_refused_changes_nothing(self):
+        found, late = InTime(5), Late(3, 32)
+        for wrong in (0, None):
+            self.assertRaises(BadDay, found.shows, TWO, wrong, 100)
+            self.assertRaises(BadDay, late.shows, TWO, wrong, 100)
+        self.assertEqual((found, late), (InTime(5), Late(3, 32)))
+
     def test_the_rule_stays(self):
         rule = Rule([(3, 2)], [(4, 4)])
         for call in self.calls(rule, 2, 99) + [lambda: least_budget(rule, 99)]:
