@@ -1,7 +1,7 @@
 """Layers: what the sheets of days side by side tell of keys."""
 
 from siltstore.checks import is_whole
-from siltstore.sheeterrors import BadDay, BadSheet
+from siltstore.sheeterrors import BadDay, BadLayers, BadSheet
 from siltstore.sheets import Sheet, need_key
 
 
@@ -40,8 +40,22 @@ def layer_of(day, sheet):
     """The layer of the sheet of a day."""
     if not is_whole(day, 1):
         raise BadDay("no integer from 1 on")
-    if not isinstance(sheet, Sheet):
-        raise BadSheet("no sheet")
+    need_sheet(sheet)
     rows = [(key, key, ((day, value),)) for key, value in sheet.leaves.items()]
     rows += [(first, last, ((day, None),)) for first, last in sheet.gone]
     return Layer(day, day, sorted(rows, key=lambda row: row[0]))
+
+
+def need_sheet(sheet):
+    """Refuse what is no sheet."""
+    if not isinstance(sheet, Sheet):
+        raise BadSheet("no sheet")
+
+
+def need_side_by_side(layers):
+    """Refuse what are no layers side by side in their days, newer ones first."""
+    if not isinstance(layers, (list, tuple)):
+        raise BadLayers(None)
+    for place, layer in enumerate(layers):
+        if not isinstance(layer, Layer) or place > 0 and layer.last != layers[place - 1].first - 1:
+            raise BadLayers(place)

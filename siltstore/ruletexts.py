@@ -5,8 +5,9 @@ from siltstore.errors import BadText
 from siltstore.pairs import GREATEST, LEAST
 from siltstore.rules import Rule, need_rule
 from siltstore.series import MOST
-from siltstore.words import is_number, words_of
+from siltstore.words import FIGURES, LETTERS, Words, is_number
 
+MOST_FIGURES = 18
 MOST_OF_GRADE = 11
 LAST_GRADE = 40
 MOST_LAYERS = 60
@@ -14,36 +15,25 @@ LAST_DAY = 10 ** 17
 DEEPEST = 20
 
 
-class Reader:
-    """The words of a line of a text, read from left to right."""
+class Reader(Words):
+    """The words of a line, refused where one does not fit."""
 
-    def __init__(self, row, words, end):
-        self.row = row
-        self.words = words
-        self.end = end
-        self.at = 0
-
-    def word(self):
-        """The word that comes next, empty behind the last one."""
-        return self.words[self.at][0] if self.at < len(self.words) else ""
-
-    def spot(self):
-        """The column of the word that comes next, behind the last one that of the line's end."""
-        return self.words[self.at][1] if self.at < len(self.words) else self.end
+    def __init__(self, row, line):
+        Words.__init__(self, row, line, (LETTERS, FIGURES))
 
     def take(self, *words):
         """Read words that must come next."""
         for word in words:
             if self.word() != word:
                 raise BadText(self.row, self.spot())
-            self.at += 1
+            self.skip()
 
     def take_number(self, least, greatest):
         """Read the number that must come next, from a least to a greatest one."""
         word = self.word()
-        if not is_number(word, least, greatest):
+        if not is_number(word, MOST_FIGURES, least, greatest):
             raise BadText(self.row, self.spot())
-        self.at += 1
+        self.skip()
         return int(word)
 
 
@@ -53,7 +43,7 @@ def read_rule(text):
         raise BadText(0, 0)
     lines, front, period = text.split("\n"), [], []
     for row, line in enumerate(lines, start=1):
-        reader = Reader(row, words_of(line), len(line) + 1)
+        reader = Reader(row, line)
         if not reader.words:
             continue
         # The period's lines stand behind those of the front.
@@ -83,9 +73,10 @@ def read_calendar(rule, text):
     if not isinstance(text, str):
         raise BadText(0, 0)
     line, feed, _ = text.partition("\n")
-    # A line feed ends a remark, and is a sign that fits nowhere.
-    words = words_of(line) + ([(feed, len(line) + 1)] if feed else [])
-    reader = Reader(1, words, len(line) + 1)
+    reader = Reader(1, line)
+    if feed:
+        # A line feed ends a remark, and is a sign that fits nowhere.
+        reader.words.append((feed, reader.end))
     calendar = _any_of(rule, reader, 0)
     _need_end(reader)
     return calendar

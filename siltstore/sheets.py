@@ -13,7 +13,7 @@ class Sheet:
     """Leaves, and stretches of keys that are gone."""
 
     def __init__(self, leaves, marks=(), ranges=()):
-        if not isinstance(leaves, dict) or not all([is_key(key) and _is_value(leaves[key]) for key in leaves]):
+        if not isinstance(leaves, dict) or not all([is_key(key) and is_value(leaves[key]) for key in leaves]):
             raise BadSheet("no such leaves")
         if not isinstance(marks, (list, tuple)) or not all([is_key(key) and key not in leaves for key in marks]):
             raise BadSheet("no such marks")
@@ -52,7 +52,7 @@ def need_key(key):
         raise BadKey("no integer from 0 to 999999")
 
 
-def _is_value(value):
+def is_value(value):
     """Whether something is a value of a key."""
     return isinstance(value, str) and 1 <= len(value) <= MOST_SIGNS and all([sign in SIGNS for sign in value])
 
