@@ -170,11 +170,13 @@ class ExamplesTest(unittest.TestCase):
         sections = EXAMPLES.strip().split("\n\n")
         self.assertEqual(len(sections), 2 * 18)
         for name, code in zip(sections[::2], sections[1::2]):
-            test = doctest.DocTestParser().get_doctest(code + "\n", {}, name, None, None)
-            self.assertTrue(test.examples, name)
-            told = []
-            doctest.DocTestRunner(verbose=False).run(test, out=told.append)
-            self.assertEqual("".join(told), "", name)
+            examples, names = doctest.DocTestParser().get_examples(code + "\n"), {}
+            self.assertTrue(examples, name)
+            for example in examples:
+                if example.want:
+                    self.assertEqual(repr(eval(example.source, names)) + "\n", example.want, name)
+                else:
+                    exec(example.source, names)
 
 
 if __name__ == "__main__":
