@@ -23,8 +23,7 @@ def _rows_of_all(parts, pins):
     # The same versions stay if layers are baked two by two: a pin between a version and the next newer one lies also
     # ahead of the newer ones that are left behind it. So rows stay short where there are many layers.
     while len(parts) > 1:
-        pairs = range(0, len(parts) - 1, 2)
-        baked = [_rows_of_two(parts[place], parts[place + 1], pins) for place in pairs]
+        baked = [_rows_of_two(parts[place], parts[place + 1], pins) for place in range(0, len(parts) - 1, 2)]
         parts = baked + parts[2 * len(baked):]
     return parts[0]
 

@@ -4,11 +4,10 @@ A state of it is a tuple: the ascending tuple of the files that are there for ce
 dropped, the tuple of the lines that may be read, in the order in which they came, and whether all days are told.
 """
 
-from siltstore.checks import is_whole
 from siltstore.sheeterrors import BadDrill
 
 LIST = "list"
-SYNC_LIST = ("sync", LIST)
+SYNC_LIST = ("sync", "list")
 TOLD = ("told",)
 
 

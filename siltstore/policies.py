@@ -47,7 +47,7 @@ class LosesOne:
         _need_policy(policy)
         if self.pin < 0 or not _are_days(self.days, self.today):
             return False
-        kept = kept_days(policy, self.days, [self.pin], self.today)
+        kept = {day: True for day in kept_days(policy, self.days, [self.pin], self.today)}
         return any([day not in kept for day in needed_days(self.days, [self.pin], self.today)])
 
 
@@ -88,7 +88,7 @@ class KeepsMore:
         _need_policy(policy)
         if not all([pin >= 0 for pin in self.pins]) or not _are_days(self.days, self.today):
             return False
-        needed = needed_days(self.days, self.pins, self.today)
+        needed = {day: True for day in needed_days(self.days, self.pins, self.today)}
         return any([day not in needed for day in kept_days(policy, self.days, self.pins, self.today)])
 
 
@@ -100,7 +100,7 @@ def kept_days(policy, days, pins, today):
     need_pins(pins)
     order = sorted(pins)
     return [day for place, day in enumerate(days)
-            if place == len(days) - 1 or _keeps(policy, _case(days[place:], order, today))]
+            if place == len(days) - 1 or _keeps(policy, _case(days, place, order, today))]
 
 
 def needed_days(days, pins, today):
@@ -114,7 +114,7 @@ def judge_policy(policy):
     most = _greatest(policy)
     # Where a version is needed, all that can be asked about pins holds, whatever other pins there are.
     for days, today in _all_days(most):
-        if not _keeps(policy, _case(days, days[:1], today)):
+        if not _keeps(policy, _case(days, 0, days[:1], today)):
             return LosesOne(days, days[0], today)
     return KeepsAll(most)
 
@@ -126,7 +126,7 @@ def judge_lean(policy):
     for days, today in _all_days(most):
         # Where it is not needed, there is no pin, or one only ahead of its day, or one behind the next newer one.
         for pins in ([], [0], [today]):
-            if _keeps(policy, _case(days, pins, today)):
+            if _keeps(policy, _case(days, 0, pins, today)):
                 return KeepsMore(days, pins, today)
     return KeepsLittle(most)
 
@@ -167,11 +167,11 @@ def _are_days(days, today):
     return all([day < newer for day, newer in zip(days, days[1:])])
 
 
-def _case(days, pins, today):
-    """What a policy can ask about the first one of days, behind which newer ones come; pins ascend."""
-    day, newer = days[0], days[1]
+def _case(days, place, pins, today):
+    """What a policy can ask about the one of days at a place, behind which newer ones come; pins ascend."""
+    day, newer = days[place], days[place + 1]
     return {"pinned": has_between(pins, day, newer), "after": len(pins) > 0 and pins[-1] >= day, "any": len(pins) > 0,
-            "newest": len(days) - 1, "young": today - day, "fresh": today - newer}
+            "newest": len(days) - 1 - place, "young": today - day, "fresh": today - newer}
 
 
 def _keeps(policy, case):

@@ -116,10 +116,11 @@ class SameStores:
     def shows(self, one, other, days):
         """Whether both stores read the same at the keys that are tried, and these are enough."""
         _need_days_of_both(one, other, days)
-        tried = {key: True for key in self.tried}
-        if self.tried != sorted(tried) or not all([key in tried for key in _edges(one, other)]):
+        tried, edges = {key: True for key in self.tried}, _edges(one, other)
+        if self.tried != sorted(tried) or not all([key in tried for key in edges]):
             return False
-        return all([_first_unlike(one, other, days, key) is None for key in self.tried if is_key(key)])
+        # All other keys that are tried read as the edge ahead of them does.
+        return all([_first_unlike(one, other, days, key) is None for key in edges])
 
 
 class UnlikeStores:
