@@ -128,6 +128,12 @@ class BakeTest(LayersTest):
         self.assertEqual((baked.versions(8), baked.has(8)), ((), False))
         self.assertEqual(bake([layer_of(2, Sheet({})), layer_of(1, Sheet({}))]).rows, ())
 
+    def test_other_days_are_another_layer(self):
+        one, two, three = [layer_of(day, Sheet({})) for day in (1, 2, 3)]
+        self.assertTrue(bake([two, one]) == bake([two, one], [1]))
+        for other in (two, one, bake([three, two]), bake([three, two, one])):
+            self.assertTrue(bake([two, one]) != other)
+
     def test_stretches_are_as_long_as_can_be(self):
         layers = [layer_of(3, Sheet({}, [], [(0, LAST_KEY)])), layer_of(2, Sheet({4: "a", 6: "b"}, [], [(1, 5)])),
                   layer_of(1, Sheet({}, [], [(3, 9)]))]

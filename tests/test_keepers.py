@@ -383,6 +383,9 @@ class WrongInputsTest(unittest.TestCase):
         keeper = Keeper()
         keeper.pin()
         keeper.fall(Sheet({1: "a"}))
+        # The last day is told by an integer, too, but not by a Boolean.
+        self.assertEqual(keeper.read(1, 1), "a")
+        self.assertRaises(BadDay, keeper.read, 1, True)
         keeper.pin()
         keeper.fall(Sheet({}))
         for wrong in (True, False, 1.0):

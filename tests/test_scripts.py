@@ -259,6 +259,15 @@ class JudgeScriptTest(ScriptsTest):
             # A mark that is hidden by an older leaf reads wrong, too.
             self.assertTrue(WrongScript(5, (early, "leaf"), (3, "mark")).shows(wrong))
         self.assertFalse(WrongScript(5, (1, "leaf"), (2, "late")).shows(wrong))
+        for one, other in [((1, "leaf"), (3, "later")), ((1, "leaf"), (3, "gone")), ((1, "late"), (3, "late")),
+                           ((3, "leaf"), (1, "late")), ((3, "leaf"), (2, "mark")), ((3, "leaf"), (3, "late"))]:
+            self.assertFalse(WrongScript(5, one, other).shows(wrong))
+        # A mark that is kept still hides what lies below.
+        kept = [FALL] * 4 + [("bake", (0, 1), 0, True), ("bake", (2, 1), 1, True)]
+        self.assertTrue(WrongScript(6, (1, "leaf"), (2, "mark")).shows(kept))
+        for early, late in [(1, 3), (1, 4), (2, 3), (2, 4), (3, 4)]:
+            for text in ("late", "mark"):
+                self.assertFalse(WrongScript(6, (early, "leaf"), (late, text)).shows(kept))
         self.assertFalse(found.shows(deeds) or RightScript([]).shows(wrong))
         self.assertTrue(found.shows(tuple(wrong[:5])))
 
@@ -414,7 +423,8 @@ class WrongInputsTest(ScriptsTest):
                              ([FALL, FALL, ("bake", (0, 1), 1, True)], 2), ([FALL, FALL, ("bake", (1,), 2, True)], 2),
                              ([FALL, FALL, ("bake", (0, 1), 0, True), ("bake", (0, 1), 0, True)], 3),
                              ([FALL, ("bake", (1,), 0, True), None], 1), ([FALL, None, ("bake", (9,), 0, True)], 1),
-                             ([FALL] * 19 + [("bake", (19,), 0, True)], 19)]:
+                             ([FALL] * 19 + [("bake", (19,), 0, True)], 19),
+                             ([FALL] * 23 + [("bake", (20,), 20, True)], 23)]:
             for call in self.calls():
                 self.assert_bad(place, lambda: call(deeds))
             for call in self.calls_of_rounds():
