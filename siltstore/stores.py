@@ -120,7 +120,7 @@ class SameStores:
         if self.tried != sorted(tried) or not all([key in tried for key in edges]):
             return False
         # All other keys that are tried read as the edge ahead of them does.
-        return all([_first_unlike(one, other, days, key) is None for key in edges])
+        return _unlike(one, other, days, edges) is None
 
 
 class UnlikeStores:
@@ -148,11 +148,8 @@ def judge_same(one, other, days):
     """A SameStores if two stores read the same on some days, otherwise an UnlikeStores."""
     _need_days_of_both(one, other, days)
     tried = _edges(one, other)
-    for key in tried:
-        day = _first_unlike(one, other, days, key)
-        if day is not None:
-            return UnlikeStores(day, key)
-    return SameStores(tried)
+    unlike = _unlike(one, other, days, tried)
+    return SameStores(tried) if unlike is None else UnlikeStores(unlike[0], unlike[1])
 
 
 def need_day_of(store, day):
@@ -182,13 +179,20 @@ def _edges(one, other):
     return [key for key in sorted(set(found)) if key <= LAST_KEY]
 
 
-def _first_unlike(one, other, days, key):
-    """The first one of days on which a key reads unlike things in two stores, None if it never does."""
-    mine, theirs = one.versions(key), other.versions(key)
-    for day in days:
-        if _told_on(mine, day) != _told_on(theirs, day):
-            return day
+def _unlike(one, other, days, keys):
+    """One of days, and one of keys that reads unlike things on it in two stores, None if none does."""
+    mine, theirs = _in_one_layer(one, days), _in_one_layer(other, days)
+    for key in keys:
+        told, other_told = mine.versions(key), theirs.versions(key)
+        unlike = [day for day in days if _told_on(told, day) != _told_on(other_told, day)] if told != other_told else []
+        if unlike:
+            return unlike[0], key
     return None
+
+
+def _in_one_layer(store, days):
+    """A store that is baked into one layer: on these days it reads the same, and keys are found more quickly."""
+    return store.baked(0, len(store), days) if len(store) > 0 else store
 
 
 def _told_on(versions, day):
