@@ -197,8 +197,10 @@ def _reads_wrong(deeds, told):
         else:
             baked = _first_told([layers[number] for number in deed[1]])
             layers = _moved(layers, deed, None if baked == "mark" and not deed[3] else baked)
-    newest = max([day for day in told if day <= today], default=0)
-    return _shown(_first_told(layers)) != _shown(told.get(newest))
+    # Only sheets that have fallen tell of the key: none falls ahead of day 1, and later ones have not come yet.
+    fallen = [day for day in told if 1 <= day <= today]
+    newest = told[max(fallen)] if fallen else None
+    return _shown(_first_told(layers)) != _shown(newest)
 
 
 def _first_told(layers):

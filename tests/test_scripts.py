@@ -48,8 +48,8 @@ class Play:
 
     def is_right(self):
         read = next((text for _, text in self.layers if text), None)
-        told = [day for day in self.contents if day <= self.today() and self.contents[day]]
-        newest = self.contents[max(told)] if told else None
+        # Each sheet that has fallen, newest first; what is told of other days is in none of them.
+        newest = next((self.contents[day] for day in range(self.today(), 0, -1) if self.contents.get(day)), None)
         return (None if read == "mark" else read) == (None if newest == "mark" else newest)
 
 
@@ -270,6 +270,43 @@ class JudgeScriptTest(ScriptsTest):
                 self.assertFalse(WrongScript(6, (early, "leaf"), (late, text)).shows(kept))
         self.assertFalse(found.shows(deeds) or RightScript([]).shows(wrong))
         self.assertTrue(found.shows(tuple(wrong[:5])))
+
+    def hold_all_pairs(self, deeds):
+        """Evidence with all pairs of days, also of those on which no sheet falls, held against what is played."""
+        many = judge_script(deeds).many
+        last = deeds[:many].count(FALL)
+        for one, other in itertools.combinations([-(10 ** 30), *range(-3, last + 3), 10 ** 30], 2):
+            for text in ("late", "mark"):
+                play = Play({one: "leaf", other: text})
+                for deed in deeds[:many]:
+                    play.do(deed)
+                shown = WrongScript(many, (one, "leaf"), (other, text)).shows(deeds)
+                self.assertEqual(shown, not play.is_right(), (deeds, one, other, text))
+                # What a sheet tells that has not fallen (yet, or ever) turns nothing wrong.
+                self.assertFalse(shown and not 1 <= one < other <= last)
+
+    def test_all_pairs_of_days(self):
+        dice = random.Random(253)
+        held = 0
+        while held < 60:
+            deeds = some_script(dice, 12, 0, 0.6)
+            if not judge_script(deeds):
+                self.hold_all_pairs(deeds)
+                held += 1
+        self.hold_all_pairs([FALL, FALL, ("bake", (1, 0), 0, True)])
+        self.hold_all_pairs([FALL, FALL, ("bake", (0,), 0, False)])
+
+    def test_days_on_which_no_sheet_falls(self):
+        deeds = [FALL, FALL, ("bake", (1, 0), 0, True)]
+        self.assertTrue(WrongScript(3, (1, "leaf"), (2, "late")).shows(deeds))
+        self.assertTrue(WrongScript(3, (1, "leaf"), (2, "mark")).shows(deeds))
+        for one, other in [(-3, -1), (-3, 0), (-1, 0), (-(10 ** 30), -1), (-1, 1), (0, 1), (0, 2), (0, 5),
+                           (-1, 10 ** 30)]:
+            for text in ("late", "mark"):
+                self.assertFalse(WrongScript(3, (one, "leaf"), (other, text)).shows(deeds))
+                changed = judge_script(deeds)
+                changed.one, changed.other = (one, "leaf"), (other, text)
+                self.assertFalse(changed.shows(deeds))
 
     def test_evidence(self):
         rows = [[(1,)], [(2,), (1,)]]
